@@ -1,0 +1,1 @@
+"""Allpieces: pieces spread over wires, and the sets that fall short."""

@@ -1,0 +1,72 @@
+"""The interface: what is defined where, and with which parameters."""
+
+import inspect
+import unittest
+from importlib import import_module
+
+FUNCTIONS = {
+    'kinds': {name: ['thing'] for name in (
+        'is_integer', 'is_number', 'is_name', 'is_houses', 'is_wire', 'is_given',
+    )},
+    'netchecker': {'lets_net': ['thing']},
+    'netparts': {
+        'into_of': ['net', 'houses'], 'out_of': ['net', 'houses'], 'between': ['net', 'source', 'target'],
+    },
+    'holderchecker': {'lets_holders': ['net', 'thing']},
+    'givingchecker': {'lets_giving': ['net', 'holders', 'thing']},
+    'netchanges': {
+        'with_wire': ['net', 'source', 'target'], 'without_wire': ['net', 'wire'], 'with_house': ['net', 'name'],
+        'laid': ['net', 'holders', 'piece', 'house'], 'renamed': ['net', '*pairs'],
+        'renamed_holders': ['net', 'holders', '*pairs'],
+    },
+    'nettexts': {'net_text': ['net'], 'holders_words': ['holders'], 'giving_words': ['giving']},
+    'netreadings': {'net_read': ['text'], 'holders_read': ['text'], 'giving_read': ['text']},
+    'comings': {name: ['net', 'holders', 'giving'] for name in ('having', 'lacking', 'serves', 'idle_wires')},
+    'gives': {
+        'can_give': ['net', 'holders', 'giving', 'wire', 'piece'],
+        'after_give': ['net', 'holders', 'giving', 'wire', 'piece'],
+        'next_givings': ['net', 'holders', 'giving'],
+        'after_gives': ['net', 'holders', 'giving', 'pairs'],
+    },
+}
+OPERATORS = ('__init__', '__getitem__', '__contains__', '__len__', '__iter__', '__eq__', '__str__', '__add__', '__sub__')
+CLASSES = {
+    ('nets', 'Net'): (['houses', '*wires'], {
+        'net': property, 'bearing': property, 'of': classmethod, 'read': classmethod, 'ring': staticmethod,
+    }),
+    ('starts', 'Start'): (['net', '*sets'], {
+        'net': property, 'holders': property, 'of': classmethod, 'read': classmethod,
+    }),
+}
+
+
+def names_of(call):
+    """Return the names of the parameters of a call, with a star where there is one."""
+    return [str(parameter) for parameter in inspect.signature(call).parameters.values()]
+
+
+class InterfaceTest(unittest.TestCase):
+
+    def test_functions(self):
+        for module, functions in FUNCTIONS.items():
+            file = import_module('allpieces.' + module)
+            for name, parameters in functions.items():
+                function = vars(file)[name]
+                self.assertTrue(inspect.isfunction(function))
+                self.assertEqual(function.__module__, 'allpieces.' + module)
+                self.assertEqual(names_of(function), parameters)
+
+    def test_classes(self):
+        for (module, name), (parameters, listed) in CLASSES.items():
+            shape = vars(import_module('allpieces.' + module))[name]
+            self.assertTrue(inspect.isclass(shape))
+            self.assertEqual(shape.__module__, 'allpieces.' + module)
+            self.assertEqual(names_of(shape), parameters)
+            for method in OPERATORS:
+                self.assertTrue(inspect.isfunction(vars(shape)[method]))
+            for method, kind in listed.items():
+                self.assertIsInstance(vars(shape)[method], kind)
+
+
+if __name__ == '__main__':
+    unittest.main()
