@@ -13,20 +13,20 @@ def can_give(net, holders, giving, wire, piece):
     need_giving(net, holders, giving)
     need_wire(net, wire)
     need_piece(holders, piece)
-    return (wire, piece) in _nexts(net, holders, giving)
+    return (wire, piece) in nexts_of(net, holders, giving)
 
 
 def after_give(net, holders, giving, wire, piece):
     """Return the giving with this wire given this piece, which has to be a next giving."""
     if not can_give(net, holders, giving, wire, piece):
         raise NotUsable("piece", piece)
-    return _given_too(giving, wire, piece)
+    return given_too(giving, wire, piece)
 
 
 def next_givings(net, holders, giving):
     """Return the set of all next givings, pairs (wire, piece)."""
     need_giving(net, holders, giving)
-    return _nexts(net, holders, giving)
+    return nexts_of(net, holders, giving)
 
 
 def after_gives(net, holders, giving, pairs):
@@ -38,7 +38,7 @@ def after_gives(net, holders, giving, pairs):
     for k, pair in enumerate(pairs):
         if not is_next(net, holders, late, pair):
             raise NotUsable("pairs", k)
-        late = _given_too(late, pair[0], pair[1])
+        late = given_too(late, pair[0], pair[1])
     return late
 
 
@@ -47,10 +47,10 @@ def is_next(net, holders, giving, thing):
     # True is equal to 1, so a pair of bools would be found among the next givings.
     if not is_pair(thing) or not is_number(thing[0]) or not is_number(thing[1]):
         return False
-    return thing in _nexts(net, holders, giving)
+    return thing in nexts_of(net, holders, giving)
 
 
-def _nexts(net, holders, giving):
+def nexts_of(net, holders, giving):
     """Return the set of all next givings of a usable giving."""
     found = comers(net, holders, giving)
     return tuple([
@@ -60,6 +60,6 @@ def _nexts(net, holders, giving):
     ])
 
 
-def _given_too(giving, wire, piece):
+def given_too(giving, wire, piece):
     """Return the giving with this wire given this piece."""
     return (*giving[:wire], piece, *giving[wire + 1:])

@@ -1,5 +1,6 @@
 """Values that the tests share, and slow, plain answers to compare with."""
 
+from functools import lru_cache
 from itertools import combinations, product
 
 NET = (('a', 'b', 'c'), (('a', 'b'), ('a', 'c'), ('b', 'c'), ('c', 'b')))
@@ -12,6 +13,11 @@ SIDES = (('a', 'b'), ('c', 'd'))
 ONE_HOUSE = (('a',), ())
 EQUAL = (('a', 'b'), (('a', 'b'), ('a', 'b'), ('b', 'a'), ('a', 'b')))
 APART = (('a', 'b', 'c'), ())
+# The document's second LINE.
+NARROW = (('a', 'b', 'c'), (('a', 'b'), ('b', 'c'), ('b', 'c'), ('c', 'b')))
+ONE = (('a',),)
+CROSS = (('a', 'b', 't', 'x', 'y'), (('a', 'x'), ('a', 'y'), ('b', 'x'), ('x', 't'), ('y', 't')))
+ENDS, NONE = (('a',), ('b',)), (-1, -1, -1, -1, -1)
 
 
 def nested(depth):
@@ -47,6 +53,57 @@ CASES = [
 ]
 
 
+class Dice:
+    """Numbers that look thrown, always the same ones."""
+
+    def __init__(self, seed):
+        self.state = seed
+
+    def throw(self, many):
+        """Return a number below many."""
+        self.state = (self.state * 6364136223846793005 + 1442695040888963407) % 2 ** 64
+        return (self.state >> 33) % many
+
+    def net(self, houses, wires, pieces):
+        """Return a net and holders with so many houses, wires and pieces."""
+        names = ('a', 'b', 'c', 'd', 'e', 'f')[:houses]
+        ends = [(self.throw(houses), 1 + self.throw(houses - 1)) for _ in range(wires)]
+        net = (names, tuple((names[k], names[(k + more) % houses]) for k, more in ends))
+        return net, tuple(self.some(names) for _ in range(pieces))
+
+    def some(self, names):
+        """Return a nonempty set of a few of the names."""
+        return tuple(sorted({names[self.throw(len(names))] for _ in range(1 + self.throw(3))}))
+
+    def sound(self, houses, pieces, more):
+        """Return a net, holders and a sound giving; with no more wires than are needed, many sets are tight."""
+        names = ('a', 'b', 'c', 'd', 'e', 'f')[:houses]
+        holders = tuple(self.some(names) for _ in range(pieces))
+        led = [(self.throw(houses), 1 + self.throw(houses - 1), -1, 0) for _ in range(more)]
+        led = [(names[k], names[(k + far) % houses], piece, keep) for k, far, piece, keep in led]
+        for piece, held in enumerate(holders):
+            have = list(held)
+            kept = self.throw(houses)
+            while len(have) < houses:
+                target = [name for name in names if name not in have][self.throw(houses - len(have))]
+                led.append((have[self.throw(len(have))], target, piece, len(have) <= kept))
+                have.append(target)
+        led = [led.pop(self.throw(len(led))) for _ in range(len(led))]
+        giving = tuple(piece if keep else -1 for _, _, piece, keep in led)
+        return (names, tuple(wire[:2] for wire in led)), holders, giving
+
+    def giving(self, net, holders):
+        """Return a giving, perhaps with wires that are given something in vain."""
+        giving = [-1] * len(net[1])
+        for _ in range(self.throw(len(net[1]) + 1)):
+            found = slow_having(net, holders, giving)
+            wire = self.throw(len(giving))
+            pieces = [piece for piece, houses in enumerate(found) if net[1][wire][0] in houses]
+            if giving[wire] == -1 and pieces:
+                giving[wire] = pieces[self.throw(len(pieces))]
+        return tuple(giving)
+
+
 def slow_having(net, holders, giving):
     """Return a list of the houses that have each piece, wire after wire until nothing more comes."""
     found = [set(houses) for houses in holders]
@@ -55,6 +112,23 @@ def slow_having(net, holders, giving):
             if piece != -1 and source in found[piece]:
                 found[piece].add(target)
     return found
+
+
+def slow_nexts(net, holders, giving):
+    """Return the pairs (wire, piece) that are next givings."""
+    found = slow_having(net, holders, giving)
+    return [
+        (wire, piece) for wire, (source, target) in enumerate(net[1]) for piece in range(len(holders))
+        if giving[wire] == -1 and source in found[piece] and target not in found[piece]
+    ]
+
+
+def courses(net, holders, giving):
+    """Yield each tuple of next givings that can be made one after another, even if some could follow."""
+    yield ()
+    for wire, piece in slow_nexts(net, holders, giving):
+        for pairs in courses(net, holders, (*giving[:wire], piece, *giving[wire + 1:])):
+            yield ((wire, piece), *pairs)
 
 
 def is_giving(net, holders, given):
@@ -86,3 +160,92 @@ def sets_of(houses):
     """Yield each nonempty set of the houses."""
     for many in range(1, len(houses) + 1):
         yield from combinations(houses, many)
+
+
+@lru_cache(maxsize=None)
+def slow_lacked(net, holders, giving, houses):
+    """Return the pieces that no house of the set has."""
+    found = slow_having(net, holders, giving)
+    return tuple(piece for piece, owners in enumerate(found) if not owners & set(houses))
+
+
+@lru_cache(maxsize=None)
+def slow_slack(net, holders, giving, houses):
+    """Return the slack of the set of houses."""
+    into = [
+        piece for (source, target), piece in zip(net[1], giving)
+        if source not in houses and target in houses and piece == -1
+    ]
+    return len(into) - len(slow_lacked(net, holders, giving, houses))
+
+
+@lru_cache(maxsize=None)
+def slow_slacks(net, holders, giving):
+    """Return a dict with the slack of each nonempty set of houses."""
+    return {houses: slow_slack(net, holders, giving, houses) for houses in sets_of(net[0])}
+
+
+def slow_sound(net, holders, giving):
+    """Return whether no set falls short."""
+    return min(slow_slacks(net, holders, giving).values()) >= 0
+
+
+@lru_cache(maxsize=None)
+def slow_serving(net, holders):
+    """Return a list of all givings that serve."""
+    full = [set(net[0])] * len(holders)
+    return [giving for giving in givings_of(net, holders) if slow_having(net, holders, giving) == full]
+
+
+def leads_on(late, giving):
+    """Return whether a giving leads on from another one."""
+    return all(piece in (-1, other) for piece, other in zip(giving, late))
+
+
+def slow_leads(net, holders, giving):
+    """Return a list of all givings that serve and lead on from the giving."""
+    return [late for late in slow_serving(net, holders) if leads_on(late, giving)]
+
+
+def small_cases():
+    """Yield the nets of CASES and of others as small, their holders and givings."""
+    yield from cases()
+    for net, holders, giving in ((NARROW, ONE, FREE), (NARROW, HOLDERS, FREE), (CROSS, ENDS, NONE)):
+        yield net, holders, giving
+    dice = Dice(7)
+    for turn in range(90):
+        net, holders = dice.net(2 + turn % 3, 3 + dice.throw(3), 1 + dice.throw(2))
+        for giving in sorted({dice.giving(net, holders) for _ in range(3)}):
+            yield net, holders, giving
+
+
+def wide_cases():
+    """Yield nets up to the limits of [10], their holders, and a giving of each."""
+    dice = Dice(11)
+    for turn in range(90):
+        net, holders = dice.net(2 + turn % 5, 10 + dice.throw(7), 1 + dice.throw(4))
+        yield net, holders, (-1,) * len(net[1]) if turn % 2 else dice.giving(net, holders)
+    for turn in range(90):
+        net, holders, giving = dice.sound(3 + turn % 4, 2 + dice.throw(3), dice.throw(3))
+        if len(net[1]) <= 16:
+            yield net, holders, giving if turn % 3 else (-1,) * len(net[1])
+
+
+PARTS = (
+    None, True, False, -1, 0, 1, 2, 3, 4, 10 ** 59, '', 'a', 'b', 'z', 'alone', 'short', 'serves', (), [], (0,), (1,),
+    ('a',), ('b',), ('b', 'c'), ('c', 'b'), ('a', 'b', 'c'), ((0, (0,)),),
+)
+
+
+def changed(value):
+    """Yield the values that come of one thing that is changed, at any place of it."""
+    yield from (part for part in PARTS if repr(part) != repr(value))
+    if isinstance(value, tuple):
+        yield list(value)
+        for k, part in enumerate(value):
+            yield value[:k] + value[k + 1:]
+            yield value[:k] + (part, part) + value[k + 1:]
+            for other in changed(part):
+                yield value[:k] + (other,) + value[k + 1:]
+            if k:
+                yield value[:k - 1] + (part, value[k - 1]) + value[k + 1:]

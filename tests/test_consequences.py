@@ -14,20 +14,7 @@ from allpieces.nettexts import holders_words, net_text
 from allpieces.netreadings import holders_read, net_read
 from allpieces.starts import Start
 from tests.checks import Case
-from tests.samples import CASES, FREE, HOLDERS, NET, cases, givings_of, is_giving, sets_of, tuples_of
-
-
-def leads_on(late, giving):
-    """Return whether a giving leads on from another one."""
-    return all(piece in (-1, other) for piece, other in zip(giving, late))
-
-
-def courses(net, holders, giving):
-    """Yield each tuple of next givings that can be made one after another, even if some could follow."""
-    yield ()
-    for wire, piece in next_givings(net, holders, giving):
-        for pairs in courses(net, holders, after_give(net, holders, giving, wire, piece)):
-            yield ((wire, piece), *pairs)
+from tests.samples import CASES, FREE, HOLDERS, NET, cases, courses, givings_of, is_giving, leads_on, sets_of, tuples_of
 
 
 class ChangesTest(Case):

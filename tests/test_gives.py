@@ -4,19 +4,10 @@ import unittest
 
 from allpieces.gives import after_give, after_gives, can_give, next_givings
 from tests.checks import BAD_GIVINGS, BAD_HOLDERS, BAD_NETS, BAD_PIECE, BAD_WIRE, Case, faults
-from tests.samples import ANYTHING, EQUAL, FIRST, FREE, HOLDERS, NET, ONE_HOUSE, cases, slow_having
+from tests.samples import ANYTHING, EQUAL, FIRST, FREE, HOLDERS, NET, ONE_HOUSE, cases, slow_nexts
 
 ERRORS = {'net': BAD_NETS, 'holders': BAD_HOLDERS, 'giving': BAD_GIVINGS}
 SOME = {name: rows[:2] for name, rows in ERRORS.items()}
-
-
-def slow_nexts(net, holders, giving):
-    """Return the pairs (wire, piece) that are next givings."""
-    found = slow_having(net, holders, giving)
-    return [
-        (wire, piece) for wire, (source, target) in enumerate(net[1]) for piece in range(len(holders))
-        if giving[wire] == -1 and source in found[piece] and target not in found[piece]
-    ]
 
 
 class GivesTest(Case):

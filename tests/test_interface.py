@@ -28,15 +28,48 @@ FUNCTIONS = {
         'next_givings': ['net', 'holders', 'giving'],
         'after_gives': ['net', 'holders', 'giving', 'pairs'],
     },
+    'thinning': {
+        'thinned': ['net', 'holders', 'giving'], 'road_of': ['net', 'holders', 'giving', 'house', 'piece'],
+    },
+    'slacks': {name: ['net', 'holders', 'giving', 'houses'] for name in (
+        'into_count', 'lacked', 'slack', 'is_short', 'is_tight',
+    )},
+    'alone': {name: ['net', 'holders', 'giving', 'house'] for name in ('alone_number', 'alone_ways')},
+    'alonepapers': {'alone_paper': ['net', 'holders', 'giving', 'house']},
+    'alonechecker': {'lets_alone': ['net', 'holders', 'giving', 'house', 'thing']},
+    'soundness': {name: ['net', 'holders', 'giving'] for name in ('is_sound', 'short_set', 'lead_on')},
+    'soundpapers': {'sound_paper': ['net', 'holders', 'giving']},
+    'soundchecker': {'lets_sound': ['net', 'holders', 'giving', 'thing']},
+    'guarding': {
+        'is_let': ['net', 'holders', 'giving', 'wire', 'piece'], 'let_givings': ['net', 'holders', 'giving'],
+    },
+    'tight': {
+        'least_tight': ['net', 'holders', 'giving', 'house'], 'needed_wires': ['net', 'holders', 'giving'],
+    },
+    'further': {
+        'enough': ['net', 'holders', 'giving', 'numbers'], 'spared': ['net', 'holders', 'giving', 'numbers'],
+        'fewest_further': ['net', 'holders', 'giving'], 'further_copies': ['net', 'holders', 'giving'],
+        'apart_sets': ['net', 'holders', 'giving'],
+    },
+    'furtherpapers': {'further_paper': ['net', 'holders', 'giving']},
 }
-OPERATORS = ('__init__', '__getitem__', '__contains__', '__len__', '__iter__', '__eq__', '__str__', '__add__', '__sub__')
+OBJECTS = ('__init__', '__len__', '__iter__', '__eq__')
+OPERATORS = (*OBJECTS, '__getitem__', '__contains__', '__str__', '__add__', '__sub__')
 CLASSES = {
-    ('nets', 'Net'): (['houses', '*wires'], {
+    ('nets', 'Net'): (['houses', '*wires'], OPERATORS, {
         'net': property, 'bearing': property, 'of': classmethod, 'read': classmethod, 'ring': staticmethod,
     }),
-    ('starts', 'Start'): (['net', '*sets'], {
+    ('starts', 'Start'): (['net', '*sets'], (*OPERATORS, 'copied'), {
         'net': property, 'holders': property, 'of': classmethod, 'read': classmethod,
     }),
+    ('courses', 'Course'): (['net', 'holders', '*pairs'], (*OBJECTS, 'giving_after', 'came_at', 'followed'), {
+        'net': property, 'holders': property, 'pairs': property, 'giving': property, 'refused': property,
+        'lackings': property, 'along': classmethod,
+    }),
+}
+PARAMETERS = {
+    'giving_after': ['k'], 'came_at': ['house', 'piece'], 'followed': ['wire', 'piece'],
+    'along': ['net', 'holders', 'pairs'], 'copied': ['piece', 'house'],
 }
 
 
@@ -57,15 +90,23 @@ class InterfaceTest(unittest.TestCase):
                 self.assertEqual(names_of(function), parameters)
 
     def test_classes(self):
-        for (module, name), (parameters, listed) in CLASSES.items():
+        for (module, name), (parameters, methods, listed) in CLASSES.items():
             shape = vars(import_module('allpieces.' + module))[name]
             self.assertTrue(inspect.isclass(shape))
             self.assertEqual(shape.__module__, 'allpieces.' + module)
             self.assertEqual(names_of(shape), parameters)
-            for method in OPERATORS:
+            for method in methods:
                 self.assertTrue(inspect.isfunction(vars(shape)[method]))
             for method, kind in listed.items():
                 self.assertIsInstance(vars(shape)[method], kind)
+
+    def test_parameters_of_methods(self):
+        for (module, name), (_, methods, listed) in CLASSES.items():
+            shape = vars(import_module('allpieces.' + module))[name]
+            for method in {*methods, *listed} & set(PARAMETERS):
+                call = getattr(shape, method)
+                bound = inspect.ismethod(call)
+                self.assertEqual(names_of(call), PARAMETERS[method] if bound else ['self', *PARAMETERS[method]])
 
 
 if __name__ == '__main__':

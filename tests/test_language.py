@@ -95,7 +95,9 @@ class LanguageTest(unittest.TestCase):
             self.assertTrue(node.module.startswith('allpieces.'), name)
             self.assertEqual(node.level, 0)
             file = PACKAGE / (node.module.split('.')[1] + '.py')
-            defined = [part.name for part in ast.parse(file.read_text()).body if hasattr(part, 'name')]
+            parts = ast.parse(file.read_text()).body
+            defined = [part.name for part in parts if hasattr(part, 'name')]
+            defined += [part.targets[0].id for part in parts if isinstance(part, ast.Assign)]
             for each in node.names:
                 self.assertIsNone(each.asname)
                 self.assertIn(each.name, defined, name)
