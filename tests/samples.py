@@ -19,6 +19,13 @@ ONE = (('a',),)
 CROSS = (('a', 'b', 't', 'x', 'y'), (('a', 'x'), ('a', 'y'), ('b', 'x'), ('x', 't'), ('y', 't')))
 ENDS, NONE = (('a',), ('b',)), (-1, -1, -1, -1, -1)
 
+# As great as [10] lets it be: sixteen pairs of a house and a piece that it lacks, and a wire for each.
+GREAT = (('a', 'b', 'c', 'd', 'e', 'f'), (
+    ('a', 'c'), ('c', 'a'), ('e', 'a'), ('a', 'b'), ('b', 'd'), ('d', 'b'), ('f', 'b'), ('d', 'c'),
+    ('c', 'e'), ('a', 'e'), ('a', 'c'), ('d', 'e'), ('d', 'f'), ('b', 'f'), ('b', 'd'), ('e', 'f'),
+))
+GREAT_HOLDERS = (('a', 'b'), ('c', 'd'), ('e', 'f'), ('a', 'd'))
+
 
 def nested(depth):
     """Return a value that is nested so deep, in lists and tuples by turns."""
@@ -222,6 +229,8 @@ def small_cases():
 def wide_cases():
     """Yield nets up to the limits of [10], their holders, and a giving of each."""
     dice = Dice(11)
+    for giving in ((-1,) * 16, (0, 1, *(-1,) * 14), (0, -1, -1, -1, 0, -1, -1, -1, 1, *(-1,) * 7)):
+        yield GREAT, GREAT_HOLDERS, giving
     for turn in range(90):
         net, holders = dice.net(2 + turn % 5, 10 + dice.throw(7), 1 + dice.throw(4))
         yield net, holders, (-1,) * len(net[1]) if turn % 2 else dice.giving(net, holders)

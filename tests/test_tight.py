@@ -8,8 +8,8 @@ from allpieces.soundness import is_sound
 from allpieces.tight import least_tight, needed_wires
 from tests.checks import BAD_GIVINGS, BAD_HOLDERS, BAD_HOUSE, BAD_NETS, Case, faults
 from tests.samples import (
-    ANYTHING, APART, FIRST, FREE, HOLDERS, NARROW, NET, ONE, ONE_HOUSE, SIDES, TWINS, VAIN, cases, sets_of, slow_lacked,
-    slow_leads, slow_slack, slow_sound, small_cases, wide_cases,
+    ANYTHING, APART, FIRST, FREE, GREAT, GREAT_HOLDERS, HOLDERS, NARROW, NET, ONE, ONE_HOUSE, SIDES, TWINS, VAIN,
+    cases, sets_of, slow_lacked, slow_leads, slow_slack, slow_sound, small_cases, wide_cases,
 )
 
 
@@ -50,6 +50,12 @@ class TightTest(Case):
         net = (('a', 'b'), (('a', 'b'),))
         self.same([least_tight(net, ONE, (-1,), house) for house in net[0]], [None, ('b',)])
         self.same(needed_wires(net, ONE, (-1,)), (0,))
+
+    def test_the_greatest_net(self):
+        free = (-1,) * 16
+        self.same(needed_wires(GREAT, GREAT_HOLDERS, free), tuple(range(16)))
+        self.same(least_tight(GREAT, GREAT_HOLDERS, free, 'e'), ('e',))
+        self.unusable('sound', -1, needed_wires, GREAT, (('a',), *GREAT_HOLDERS[1:]), free)
 
     def test_all_sets(self):
         for net, holders, giving in sound_cases((*small_cases(), *wide_cases())):
