@@ -16,6 +16,16 @@ def is_pair(thing):
     return isinstance(thing, tuple) and len(thing) == 2
 
 
+def is_triple(thing):
+    """Return whether it is a tuple of three values."""
+    return isinstance(thing, tuple) and len(thing) == 3
+
+
+def is_ascending(values):
+    """Return whether each value of a tuple is less than the next one; they have to be of one kind."""
+    return all([low < high for low, high in zip(values, values[1:])])
+
+
 def is_name(thing):
     """Return whether it is a string of one to eight lowercase letters."""
     if not isinstance(thing, str) or not 1 <= len(thing) <= 8:
@@ -32,9 +42,7 @@ def is_houses(thing):
     """Return whether it is a set of one or more names."""
     if not isinstance(thing, tuple) or not thing:
         return False
-    if not all([is_name(name) for name in thing]):
-        return False
-    return all([low < high for low, high in zip(thing, thing[1:])])
+    return all([is_name(name) for name in thing]) and is_ascending(thing)
 
 
 def is_wire(thing):

@@ -3,7 +3,7 @@
 import unittest
 from itertools import product
 
-from allpieces.errors import InvalidPaper, InvalidText, NotUsable
+from allpieces.errors import Barred, InvalidEvent, InvalidPaper, InvalidText, NotUsable
 
 
 class Case(unittest.TestCase):
@@ -36,6 +36,14 @@ class Case(unittest.TestCase):
     def unreadable(self, line, field, call, *args, **named):
         """Check that a call raises InvalidText(line, field)."""
         return self.refused(InvalidText, {'line': line, 'field': field}, call, *args, **named)
+
+    def refuses(self, event, reason, call, *args, **named):
+        """Check that a call raises InvalidEvent(event, reason)."""
+        return self.refused(InvalidEvent, {'event': event, 'reason': reason}, call, *args, **named)
+
+    def bars(self, event, houses, call, *args, **named):
+        """Check that a call raises Barred(event, houses)."""
+        return self.refused(Barred, {'event': event, 'houses': houses}, call, *args, **named)
 
     def first_error(self, call, usable, faults):
         """Check, for all mixtures of usable arguments and faults, that the first fault is told.

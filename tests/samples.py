@@ -71,6 +71,13 @@ class Dice:
         self.state = (self.state * 6364136223846793005 + 1442695040888963407) % 2 ** 64
         return (self.state >> 33) % many
 
+    def great(self, many):
+        """Return a number below many, which may have sixty digits."""
+        thrown = 0
+        for _ in range(8):
+            thrown = thrown * 2 ** 31 + self.throw(2 ** 31)
+        return thrown % many
+
     def net(self, houses, wires, pieces):
         """Return a net and holders with so many houses, wires and pieces."""
         names = ('a', 'b', 'c', 'd', 'e', 'f')[:houses]
@@ -242,7 +249,8 @@ def wide_cases():
 
 PARTS = (
     None, True, False, -1, 0, 1, 2, 3, 4, 10 ** 59, '', 'a', 'b', 'z', 'alone', 'short', 'serves', (), [], (0,), (1,),
-    ('a',), ('b',), ('b', 'c'), ('c', 'b'), ('a', 'b', 'c'), ((0, (0,)),),
+    ('a',), ('b',), ('b', 'c'), ('c', 'b'), ('a', 'b', 'c'), ((0, (0,)),), 'give', 'lose', 'lay', 'spread', ('lose', 1),
+    ('lay', 0, 'b'), (0, 'b'), (('b',), 2), ('a', 'b', 1),
 )
 
 
@@ -258,3 +266,86 @@ def changed(value):
                 yield value[:k] + (other,) + value[k + 1:]
             if k:
                 yield value[:k - 1] + (part, value[k - 1]) + value[k + 1:]
+
+
+def slow_copies(net, holders, copies):
+    """Return the holders with the copies laid."""
+    held = [set(houses) for houses in holders]
+    for piece, house in copies:
+        held[piece].add(house)
+    return tuple(tuple(sorted(houses)) for houses in held)
+
+
+def slow_loss(net, holders, giving, wires):
+    """Return the net, the holders and the giving without these wires."""
+    kept = [wire for wire in range(len(giving)) if wire not in wires]
+    return (net[0], tuple(net[1][wire] for wire in kept)), holders, tuple(giving[wire] for wire in kept)
+
+
+@lru_cache(maxsize=None)
+def can_be_done(net, holders, giving):
+    """Return whether some row of next givings ends in a giving that serves."""
+    if all(len(owners) == len(net[0]) for owners in slow_having(net, holders, giving)):
+        return True
+    return any(
+        can_be_done(net, holders, (*giving[:wire], piece, *giving[wire + 1:]))
+        for wire, piece in slow_nexts(net, holders, giving)
+    )
+
+
+def sound_cases(which):
+    """Return a list of those of the cases that are sound."""
+    return [case for case in which if slow_sound(*case)]
+
+
+MUCH = 10 ** 60 - 1
+MANY = (('a', 'b', 'c'), (('a', 'b', 10 ** 30), ('b', 'c', 10 ** 30 - 1)), ((('a',), 10 ** 30),))
+# Bulk cases that stand for so many wires and pieces that nets can be made of them.
+FEW_BULKS = [
+    (('a',), (), ()),
+    (('a',), (), ((('a',), 3),)),
+    (('a', 'b'), (), ((('a',), 1),)),
+    (('a', 'b'), (('a', 'b', 1),), ()),
+    (('a', 'b'), (('a', 'b', 2),), ((('a',), 2),)),
+    (('a', 'b'), (('a', 'b', 2), ('b', 'a', 1)), ((('a',), 2), (('a', 'b'), 1), (('b',), 1))),
+    (('a', 'b', 'c'), (('a', 'b', 2), ('a', 'c', 1), ('b', 'c', 1), ('c', 'b', 2)), ((('a',), 2),)),
+    (('a', 'b', 'c'), (('a', 'b', 3), ('b', 'c', 2)), ((('a',), 3),)),
+    (('a', 'b', 'c'), (('a', 'c', 1), ('b', 'c', 2), ('c', 'a', 2), ('c', 'b', 1)), ((('a',), 1), (('b',), 2))),
+]
+
+
+def expanded(bulks):
+    """Return the net and the holders for which a bulk case stands, wire by wire and piece by piece."""
+    houses, wires, pieces = bulks
+    led = tuple((source, target) for source, target, times in wires for _ in range(times))
+    return (houses, led), tuple(held for held, times in pieces for _ in range(times))
+
+
+def times_as_great(bulks, many):
+    """Return the bulk case with all times so many times as great."""
+    houses, wires, pieces = bulks
+    led = tuple((source, target, many * times) for source, target, times in wires)
+    return houses, led, tuple((held, many * times) for held, times in pieces)
+
+
+def drawn_bulks(dice, houses, wires, pieces, most):
+    """Return a bulk case of so many houses, and at most so many triples and pairs, with times up to most."""
+    names = ('a', 'b', 'c', 'd', 'e', 'f')[:houses]
+    led = {}
+    for _ in range(wires if houses > 1 else 0):
+        k = dice.throw(houses)
+        led[names[k], names[(k + 1 + dice.throw(houses - 1)) % houses]] = 1 + dice.great(most)
+    held = {dice.some(names): 1 + dice.great(most) for _ in range(pieces)}
+    return names, tuple((*ends, led[ends]) for ends in sorted(led)), tuple(sorted(held.items()))
+
+
+def wide_bulks():
+    """Yield bulk cases up to the limits of [55]."""
+    dice = Dice(5)
+    for most in (1, 3, 10 ** 9, MUCH):
+        for turn in range(40):
+            yield drawn_bulks(dice, 1 + turn % 6, dice.throw(13), dice.throw(7), most)
+    for turn in range(40):
+        # Links enough to bring most of the pieces, though not always all.
+        names, wires, pieces = drawn_bulks(dice, 2 + turn % 5, 12, 2, MUCH // 4)
+        yield names, tuple((*row[:2], row[2] + MUCH // 2) for row in wires), pieces

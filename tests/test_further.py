@@ -8,11 +8,9 @@ from allpieces.netchanges import laid
 from allpieces.soundness import is_sound
 from tests.checks import BAD_GIVINGS, BAD_HOLDERS, BAD_NETS, Case, faults
 from tests.samples import (
-    ANYTHING, APART, EQUAL, FIRST, FREE, HOLDERS, NARROW, NET, ONE, ONE_HOUSE, SIDES, TWINS, VAIN, Dice, cases, sets_of,
-    slow_having, slow_slack, slow_slacks, slow_sound, small_cases, wide_cases,
+    ANYTHING, APART, EQUAL, FIRST, FREE, HOLDERS, MUCH, NARROW, NET, ONE, ONE_HOUSE, SIDES, TWINS, VAIN, Dice, cases,
+    sets_of, slow_having, slow_slack, slow_slacks, slow_sound, small_cases, wide_cases,
 )
-
-MUCH = 10 ** 60 - 1
 
 
 def slow_enough(net, holders, giving, numbers):

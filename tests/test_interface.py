@@ -52,6 +52,15 @@ FUNCTIONS = {
         'apart_sets': ['net', 'holders', 'giving'],
     },
     'furtherpapers': {'further_paper': ['net', 'holders', 'giving']},
+    'furtherchecker': {'lets_further': ['net', 'holders', 'giving', 'thing']},
+    'losses': {
+        'strength': ['net', 'holders', 'giving'], 'weakest': ['net', 'holders', 'giving'],
+        'after_loss': ['net', 'holders', 'giving', 'wires'],
+    },
+    'rooms': {'room_for': ['net', 'holders', 'giving', 'houses']},
+    'bulkchecker': {'lets_bulks': ['thing']},
+    'bulks': {'bulk_alone': ['bulks', 'house'], 'bulks_sound': ['bulks'], 'bulks_short': ['bulks']},
+    'logkinds': {'is_log': ['thing']},
 }
 OBJECTS = ('__init__', '__len__', '__iter__', '__eq__')
 OPERATORS = (*OBJECTS, '__getitem__', '__contains__', '__str__', '__add__', '__sub__')

@@ -9,7 +9,7 @@ from allpieces.tight import least_tight, needed_wires
 from tests.checks import BAD_GIVINGS, BAD_HOLDERS, BAD_HOUSE, BAD_NETS, Case, faults
 from tests.samples import (
     ANYTHING, APART, FIRST, FREE, GREAT, GREAT_HOLDERS, HOLDERS, NARROW, NET, ONE, ONE_HOUSE, SIDES, TWINS, VAIN,
-    cases, sets_of, slow_lacked, slow_leads, slow_slack, slow_sound, small_cases, wide_cases,
+    cases, sets_of, slow_lacked, slow_leads, slow_slack, slow_sound, small_cases, sound_cases, wide_cases,
 )
 
 
@@ -19,11 +19,6 @@ def slow_tight(net, holders, giving):
         houses for houses in sets_of(net[0])
         if slow_slack(net, holders, giving, houses) == 0 and slow_lacked(net, holders, giving, houses)
     ]
-
-
-def sound_cases(which):
-    """Return a list of those of the cases that are sound."""
-    return [case for case in which if slow_sound(*case)]
 
 
 class TightTest(Case):
