@@ -61,6 +61,10 @@ FUNCTIONS = {
     'bulkchecker': {'lets_bulks': ['thing']},
     'bulks': {'bulk_alone': ['bulks', 'house'], 'bulks_sound': ['bulks'], 'bulks_short': ['bulks']},
     'logkinds': {'is_log': ['thing']},
+    'through': {'spread_through': ['spread', 'events']},
+    'replaying': {'replayed': ['log']},
+    'eventtexts': {'event_line': ['event'], 'log_lines': ['log']},
+    'eventreadings': {'read_event': ['line'], 'read_log': ['lines']},
 }
 OBJECTS = ('__init__', '__len__', '__iter__', '__eq__')
 OPERATORS = (*OBJECTS, '__getitem__', '__contains__', '__str__', '__add__', '__sub__')
@@ -75,10 +79,22 @@ CLASSES = {
         'net': property, 'holders': property, 'pairs': property, 'giving': property, 'refused': property,
         'lackings': property, 'along': classmethod,
     }),
+    ('spreads', 'Spread'): (['net', 'holders'], (
+        *OBJECTS, '__call__', '__contains__', '__enter__', '__exit__', 'left_case', 'state', 'short_now', 'give', 'lose',
+        'lay', 'apply', 'barred', 'tried', 'undo', 'do_all', 'tally', 'log', 'shut',
+    ), {
+        'net': property, 'holders': property, 'giving': property, 'having': property, 'lost': property,
+        'is_shut': property, 'MOST': int,
+    }),
+    ('guarded', 'Guarded'): (['net', 'holders'], ('__init__', 'barred'), {}),
+    ('desk', 'Desk'): ([], ('__init__', 'say', 'counts'), {}),
 }
 PARAMETERS = {
     'giving_after': ['k'], 'came_at': ['house', 'piece'], 'followed': ['wire', 'piece'],
     'along': ['net', 'holders', 'pairs'], 'copied': ['piece', 'house'],
+    'left_case': [], 'state': [], 'short_now': [], 'give': ['wire', 'piece'], 'lose': ['wire'], 'lay': ['piece', 'house'],
+    'apply': ['event'], '__call__': ['event'], 'barred': ['event'], 'tried': ['*events'], 'undo': [],
+    'do_all': ['*events', 'keep=False'], 'tally': [], 'log': [], 'shut': [], 'say': ['row'], 'counts': [],
 }
 
 

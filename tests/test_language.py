@@ -21,6 +21,10 @@ BANNED = set('''
     type typing enum dataclass overload contextmanager register elements open input law eval exec compile globals locals
     vars dir id help
 '''.split())
+BARRED_NAMES = (
+    '_wall', '_pe_', '_dcw_', '_enum_', '_cm_', '_twin_re_', '_lay_', '_law_', '_stub_', '_sre', '_cold', '_tuplegetter',
+    '_outside', '_record', '_written_out', '_member_names',
+)
 PLAIN = (
     ast.FunctionDef, ast.ClassDef, ast.Assign, ast.AugAssign, ast.If, ast.While, ast.For, ast.Return, ast.Break,
     ast.Continue, ast.Pass, ast.Raise, ast.Assert, ast.Delete, ast.Nonlocal, ast.Match, ast.With, ast.Try, ast.Expr,
@@ -132,6 +136,20 @@ class LanguageTest(unittest.TestCase):
         for name, node in nodes(ast.arg):
             self.assertNotIn(node.arg, BANNED | BUILTINS, name)
             self.assertIsNone(node.annotation, name)
+
+    def test_names_with_an_underscore(self):
+        for name, node in nodes(ast.Name, ast.FunctionDef, ast.Attribute, ast.arg):
+            word = [getattr(node, field) for field in ('id', 'name', 'attr', 'arg') if hasattr(node, field)][0]
+            self.assertFalse(word.startswith(BARRED_NAMES), (name, word))
+
+    def test_finally_and_exit_only_assign(self):
+        blocks = [(name, node.finalbody) for name, node in nodes(ast.Try)]
+        blocks += [(name, node.body) for name, node in nodes(ast.FunctionDef) if node.name == '__exit__']
+        for name, block in blocks:
+            for row in block:
+                self.assertIsInstance(row, ast.Assign, name)
+                self.assertIsInstance(row.targets[0], ast.Attribute, name)
+                self.assertIsInstance(row.value, (ast.Name, ast.Attribute, ast.Constant), name)
 
     def test_calls(self):
         for name, tree in trees():

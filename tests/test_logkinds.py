@@ -10,26 +10,11 @@ from allpieces.netchecker import lets_net
 from allpieces.nets import Net
 from allpieces.starts import Start
 from tests.checks import Case
-from tests.samples import ANYTHING, CASES, HOLDERS, NET, ONE_HOUSE, changed
+from tests.samples import ANYTHING, CASES, HOLDERS, MUCH, NET, ONE_HOUSE, changed
+from tests.spreading import is_event
 
 HEAD = ('spread', NET, HOLDERS)
 GOOD = (HEAD, ('give', 0, 0), ('lose', 2), ('lay', 1, 'c'))
-MUCH = 10 ** 60 - 1
-
-
-def is_event(value):
-    """Return whether a value is an event by form."""
-    kinds = {'give': (int, int), 'lose': (int,), 'lay': (int, str)}
-    if type(value) is not tuple or not value or type(value[0]) is not str or value[0] not in kinds:
-        return False
-    if tuple(type(part) for part in value[1:]) != kinds[value[0]]:
-        return False
-    for part in value[1:]:
-        if type(part) is int and part < 0:
-            return False
-        if type(part) is str and not (1 <= len(part) <= 8 and all('a' <= letter <= 'z' for letter in part)):
-            return False
-    return True
 
 
 def slow_log(value):
