@@ -96,7 +96,8 @@ class ReadLogTest(Case):
     def test_the_first_line(self):
         for line, field in (('', 0), (' ', 0), ('spread', 1), ('spread ', 1), (' spread 5', 0), ('spread 5 ', 2),
                             ('spread 5 5', 2), ('spread  5', 1), ('spread 0', 1), ('spread 05', 1), ('spread -1', 1),
-                            ('spread a', 1), ('spread a b', 1), ('Spread 5', 0), ('spreads 5', 0), ('5', 0),
+                            ('spread a', 1), ('spread a b', 1), ('spread a 5', 1), ('spread 0 5', 1), ('spread 5 a', 2),
+                            ('Spread 5', 0), ('spreads 5', 0), ('5', 0),
                             ('houses a b c', 0), ('give 0 0', 0), ('spread ' + '1' * 61, 1), ('spread 1.0', 1)):
             for rest in (LINES[1:], [], [''], ['x'] * 3):
                 self.unreadable(0, field, read_log, [line, *rest])

@@ -91,6 +91,13 @@ class StrengthTest(Case):
         self.same(self.check(net, (('a',),) * 3, (-1,) * 3), 0)
         self.same(self.check(net, (('a',), ('a', 'b')), (-1,) * 3), 2)
 
+    def test_much_slack(self):
+        # Far more than all houses have together, which lack nothing.
+        net = (('a', 'b', 'c'), (('a', 'b'),) * 10 + (('b', 'c'),) * 6)
+        self.same(self.check((net[0][:2], net[1][:10]), (('a',), ('a', 'b'), ('a', 'b')), (-1,) * 10), 9)
+        self.same(self.check(net, (('a',), ('a', 'b', 'c'), ('a', 'b', 'c'), ('a', 'b', 'c')), (-1,) * 16), 5)
+        self.same(self.check(net, (('a', 'b'), ('a', 'b', 'c'), ('a', 'b', 'c')), (-1,) * 16), 5)
+
     def test_equal_wires(self):
         self.same(self.check(EQUAL, ENDS_OF_EQUAL, FREE), 0)
         self.same(self.check(EQUAL, ONE, FREE), 2)

@@ -52,6 +52,13 @@ class RoomTest(Case):
         self.same([room_for(EQUAL, (), FREE, (house,)) for house in EQUAL[0]], [3, 1])
         self.same([room_for(EQUAL, (('a',), ('b',)), FREE, (house,)) for house in EQUAL[0]], [2, 0])
 
+    def test_much_room(self):
+        for many in (1, 3, 10, 16):
+            net, free = (('a', 'b'), (('a', 'b'),) * many), (-1,) * many
+            self.same(self.check(net, (), free), {('a',): many, ('b',): 0, ('a', 'b'): None})
+            self.same(room_for(net, (('a', 'b'),) * 3, free, ('a',)), many)
+            self.same(room_for(net, (('a',), ('a', 'b'), ('a', 'b')), free, ('a',)), many - 1)
+
     def test_nothing_lacked(self):
         self.same(self.check(NET, HOLDERS, (0, 1, 0, 1)), {
             houses: None if houses == NET[0] else 0 for houses in sets_of(NET[0])
